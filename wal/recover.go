@@ -4,6 +4,7 @@ import (
 	"bytes"
 
 	"creel/api"
+	"creel/sector"
 )
 
 // recovered recovers a log, which is done once for it.
@@ -32,7 +33,7 @@ func (l *Log) mend() api.Errno {
 	case api.ErrNone:
 		return api.OK
 	case api.ErrEnd:
-		return l.disk.lay(Write{No: l.disk.noteAt(0), B: sector()})
+		return l.disk.lay(Write{No: l.disk.noteAt(0), B: sector.Of()})
 	}
 	return e
 }
