@@ -58,14 +58,9 @@ func (m model) names(at string) []string {
 	return l
 }
 
-// of are the names of a kind in a directory; ErrType, where one doesn't come
-// to what could be one.
+// of are the names of a kind in a directory; none, if nothing stands there, and
+// so where something else stands on the way; ErrType, if it is no directory.
 func (m model) of(at string, kind int) ([]string, api.Errno) {
-	for i := range at {
-		if _, there := m.at[at[:i]]; at[i] == '/' && there && !m.is(at[:i], mode.Dir) {
-			return nil, api.ErrType
-		}
-	}
 	if _, there := m.at[at]; there && !m.is(at, mode.Dir) {
 		return nil, api.ErrType
 	}

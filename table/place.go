@@ -48,13 +48,15 @@ func (x place) node() (inode.Node, api.Errno) {
 }
 
 // names answers the names of all of a kind that stands within a place, rising;
-// none, if the place itself isn't there.
+// none, if the place itself isn't there. What stands there is asked first, since
+// List's error is the same where it is no directory and where something on the
+// way to it is none.
 func (x place) names(kind int) ([]string, api.Errno) {
-	l, e := x.List(x.path...)
-	switch {
-	case e == api.ErrNone:
+	if _, e := x.node(); e == api.ErrNone {
 		return nil, api.OK
-	case e != api.OK:
+	}
+	l, e := x.List(x.path...)
+	if e != api.OK {
 		return nil, e
 	}
 	return slices.DeleteFunc(l, func(name string) bool { return !x.has(name, kind) }), api.OK

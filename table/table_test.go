@@ -327,7 +327,9 @@ func TestKeeps(t *testing.T) {
 	}
 }
 
-// P9.1 to P9.3: something else stands where a key, a table or /db should.
+// P9.1 to P9.3: something else stands where a key, a table or /db should,
+// committed or not. Where it is /db that is no directory, no table is there: only
+// Put and Tables have an error of it.
 func TestInTheWay(t *testing.T) {
 	for _, c := range []struct {
 		what               string
@@ -340,31 +342,33 @@ func TestInTheWay(t *testing.T) {
 		{"a link like a value at the key", []plant{dir("db"), dir("db/x"), link("db/x/a", "i1;")}, api.ErrForm, api.ErrType, api.OK, api.OK},
 		{"a file at the table", []plant{dir("db"), file("db/x", "i1;")}, api.ErrNone, api.ErrType, api.ErrType, api.OK},
 		{"a link at the table", []plant{dir("db"), dir("db/y"), file("db/y/a", "i1;"), link("db/x", "y")}, api.ErrNone, api.ErrType, api.ErrType, api.OK},
-		{"a file at /db", []plant{file("db", "")}, api.ErrNone, api.ErrType, api.ErrType, api.ErrType},
-		{"a link at /db", []plant{dir("e"), dir("e/x"), file("e/x/a", "i1;"), link("db", "e")}, api.ErrNone, api.ErrType, api.ErrType, api.ErrType},
-		{"a link to nothing at /db", []plant{link("db", "none")}, api.ErrNone, api.ErrType, api.ErrType, api.ErrType},
+		{"a file at /db", []plant{file("db", "")}, api.ErrNone, api.ErrType, api.OK, api.ErrType},
+		{"a link at /db", []plant{dir("e"), dir("e/x"), file("e/x/a", "i1;"), link("db", "e")}, api.ErrNone, api.ErrType, api.OK, api.ErrType},
+		{"a link to nothing at /db", []plant{link("db", "none")}, api.ErrNone, api.ErrType, api.OK, api.ErrType},
 	} {
 		b := planted(t, 20)
 		b.plant(t, c.l...)
-		x := b.of(t, "x")
-		v, e := x.Get("a")
-		errs(t, c.what+": Get", e, c.get)
-		if !codec.Same(v, codec.Value{}) || x.Has("a") {
-			t.Errorf("%s: %v is there", c.what, v)
+		for range 2 { // not committed, and committed
+			x := b.of(t, "x")
+			v, e := x.Get("a")
+			errs(t, c.what+": Get", e, c.get)
+			if !codec.Same(v, codec.Value{}) || x.Has("a") {
+				t.Errorf("%s: %v is there", c.what, v)
+			}
+			errs(t, c.what+": Put", b.put(t, "x", "a", codec.Int(1)), c.put)
+			if n, e := b.drop(t, "x", "a"); n != 0 || e != api.OK {
+				t.Errorf("%s: Drop: %d, %d", c.what, n, e)
+			}
+			l, e := x.Keys()
+			errs(t, c.what+": Keys", e, c.keys)
+			if len(l) != 0 {
+				t.Errorf("%s: Keys: %q", c.what, l)
+			}
+			errs(t, c.what+": Each", x.Each(func(string, codec.Value) bool { t.Error(c.what, "is told"); return true }), c.keys)
+			_, e = Tables(b.c)
+			errs(t, c.what+": Tables", e, c.in)
+			b.commit(t)
 		}
-		errs(t, c.what+": Put", b.put(t, "x", "a", codec.Int(1)), c.put)
-		if n, e := b.drop(t, "x", "a"); n != 0 || e != api.OK {
-			t.Errorf("%s: Drop: %d, %d", c.what, n, e)
-		}
-		l, e := x.Keys()
-		errs(t, c.what+": Keys", e, c.keys)
-		if len(l) != 0 {
-			t.Errorf("%s: Keys: %q", c.what, l)
-		}
-		errs(t, c.what+": Each", x.Each(func(string, codec.Value) bool { t.Error(c.what, "is told"); return true }), c.keys)
-		_, e = Tables(b.c)
-		errs(t, c.what+": Tables", e, c.in)
-		b.commit(t)
 	}
 }
 
