@@ -1,5 +1,6 @@
 // Package sector makes a disk's sectors of parts, and numbers of their bytes,
-// for all layers that lay something on a disk.
+// for all layers that lay something on a disk, or write numbers as it is done
+// there.
 package sector
 
 import (
